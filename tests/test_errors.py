@@ -1,0 +1,53 @@
+"""[3]: the classes of the refusals, and the texts they are made with."""
+
+import unittest
+
+from turnroots import errors
+from turnroots.hasroot import least_right, root_told
+from turnroots.rounds import from_rounds, home_of, kind_of, rounds_of
+from turnroots.turns import power_of, put_behind, way_back
+
+NAMES = ["NoTurn", "NoFit", "NoRounds", "NoNumber", "NoRoot", "TooMany", "NoKind", "NoText", "NoName", "NoRow"]
+REFUSED = [
+    (errors.NoTurn, put_behind, ([1], [0])), (errors.NoTurn, put_behind, ([0], None)),
+    (errors.NoTurn, way_back, ((0,),)), (errors.NoTurn, power_of, ("", 2)),
+    (errors.NoFit, put_behind, ([0], [])),
+    (errors.NoTurn, rounds_of, ([True],)), (errors.NoTurn, kind_of, (None,)), (errors.NoTurn, home_of, (1,)),
+    (errors.NoRounds, from_rounds, ([[]],)), (errors.NoRounds, from_rounds, ([[1]],)),
+    (errors.NoNumber, least_right, (0, 1)), (errors.NoNumber, least_right, (1, 0)),
+    (errors.NoTurn, root_told, ([2], 2)), (errors.NoNumber, root_told, ([0], 0)),
+]
+
+
+class TestErrors(unittest.TestCase):
+    def test_all_are_under_the_one(self):
+        self.assertEqual(errors.TurnError.__bases__, (ValueError,))
+        for name in NAMES:
+            self.assertEqual(getattr(errors, name).__bases__, (errors.TurnError,), name)
+
+    def test_none_is_under_another(self):
+        classes = [getattr(errors, name) for name in NAMES]
+        for one in classes:
+            for other in classes:
+                self.assertEqual(issubclass(one, other), one is other)
+
+    def test_made_with_one_text(self):
+        for name in ["TurnError"] + NAMES:
+            for text in ["", "why not", "two\nrows"]:
+                made = getattr(errors, name)(text)
+                self.assertEqual(str(made), text)
+                self.assertEqual(made.args, (text,))
+
+    def test_raised_with_one_text(self):
+        for kind, asked, handed in REFUSED:
+            with self.subTest(asked=asked.__name__, handed=handed):
+                with self.assertRaises(errors.TurnError) as caught:
+                    asked(*handed)
+                self.assertIs(type(caught.exception), kind)
+                self.assertEqual(len(caught.exception.args), 1)
+                self.assertIs(type(caught.exception.args[0]), str)
+                self.assertEqual(str(caught.exception), caught.exception.args[0])
+
+
+if __name__ == "__main__":
+    unittest.main()

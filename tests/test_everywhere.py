@@ -1,0 +1,148 @@
+"""[2] and [3] for all modules: what is handed in, what is told, and which refusal goes first."""
+
+import copy
+import unittest
+
+import worked
+from turnroots.errors import NoFit, NoNumber, NoTurn, TurnError
+from turnroots.hasroot import least_right, root_told
+from turnroots.rounds import from_rounds, home_of, kind_of, rounds_of
+from turnroots.turns import is_turn, power_of, put_behind, way_back
+
+
+def questions():
+    """Each question with fresh arguments, and the kind of its answer."""
+    told = [(least_right, [4, 6], int), (from_rounds, [[]], list), (put_behind, [[], []], list)]
+    for p in worked.many_turns():
+        told.append((is_turn, [list(p)], bool))
+        told.append((put_behind, [list(p), worked.back(p)], list))
+        told.append((way_back, [list(p)], list))
+        for k in (0, 1, -1, 6, 10 ** 29):
+            told.append((power_of, [list(p), k], list))
+        told.append((rounds_of, [list(p)], list))
+        told.append((kind_of, [list(p)], list))
+        told.append((home_of, [list(p)], int))
+        told.append((from_rounds, [worked.rounds(p)], list))
+        for m in (1, 2, 6, 10 ** 29 + 1):
+            told.append((root_told, [list(p), m], tuple))
+    return told
+
+
+def lists_within(thing):
+    """All lists in what was told or handed in, itself too."""
+    found = [thing] if isinstance(thing, list) else []
+    if isinstance(thing, (list, tuple)):
+        for part in thing:
+            found.extend(lists_within(part))
+    return found
+
+
+def spoil(thing):
+    for found in lists_within(thing):
+        found.clear()
+        found.append("spoilt")
+
+
+class TestToldAndHandedIn(unittest.TestCase):
+    def test_kinds(self):
+        for asked, handed, kind in questions():
+            self.assertIs(type(asked(*handed)), kind, asked.__name__)
+
+    def test_whole_numbers_and_lists_within(self):
+        for asked, handed, kind in questions():
+            if asked in (put_behind, way_back, power_of, kind_of, from_rounds):
+                self.assertTrue(all(type(part) is int for part in asked(*handed)))
+            if asked == rounds_of:
+                self.assertTrue(all(type(ring) is list for ring in asked(*handed)))
+
+    def test_handed_in_stays(self):
+        for asked, handed, kind in questions():
+            before = copy.deepcopy(handed)
+            asked(*handed)
+            self.assertEqual(handed, before, asked.__name__)
+
+    def test_handed_in_stays_where_refused(self):
+        for asked, handed in [
+            (put_behind, [[1, 0], [0]]), (put_behind, [[1, 0], [1, 1]]), (way_back, [[2, 0]]), (power_of, [[0, 0], 3]),
+            (from_rounds, [[[1, 0], [3]]]), (from_rounds, [[[0], []]]), (root_told, [[1, 0], 0]),
+        ]:
+            before = copy.deepcopy(handed)
+            with self.assertRaises(TurnError):
+                asked(*handed)
+            self.assertEqual(handed, before)
+
+    def test_told_is_new(self):
+        for asked, handed, kind in questions():
+            one = lists_within(asked(*handed))
+            other = lists_within(asked(*handed))
+            given = [found for part in handed for found in lists_within(part)]
+            marks = [id(found) for found in one + other + given]
+            self.assertEqual(len(marks), len(set(marks)), asked.__name__)
+
+    def test_the_same_is_answered_the_same(self):
+        for asked, handed, kind in questions():
+            told = asked(*handed)
+            kept = copy.deepcopy(told)
+            spoil(told)
+            self.assertEqual(asked(*handed), kept, asked.__name__)
+            self.assertEqual(asked(*copy.deepcopy(handed)), kept, asked.__name__)
+
+    def test_nothing_handed_in_is_kept(self):
+        for asked, handed, kind in questions():
+            fresh = copy.deepcopy(handed)
+            told = asked(*handed)
+            kept = copy.deepcopy(told)
+            for part in handed:
+                spoil(part)
+            self.assertEqual(told, kept, asked.__name__)
+            self.assertEqual(asked(*fresh), kept, asked.__name__)
+
+    def test_one_list_in_two_places(self):
+        p = [1, 2, 0]
+        told = put_behind(p, p)
+        self.assertEqual((told, p), ([2, 0, 1], [1, 2, 0]))
+        self.assertIsNot(told, p)
+
+    def test_told_may_be_handed_in(self):
+        for p in worked.many_turns():
+            square = power_of(p, 2)
+            self.assertEqual(put_behind(square, way_back(p)), p)
+            self.assertEqual(from_rounds(rounds_of(square)), square)
+            self.assertEqual(power_of(root_told(square, 2)[1], 2), square)
+
+    def test_asked_after_a_refusal(self):
+        for thing in worked.no_turns():
+            for asked, rest in ((put_behind, [[0]]), (way_back, []), (power_of, [2]), (rounds_of, []), (root_told, [2])):
+                with self.assertRaises(NoTurn):
+                    asked(thing, *rest)
+        self.assertEqual(root_told([1, 2, 0], 2), root_told([1, 2, 0], 2))
+        self.assertEqual(power_of([1, 2, 0], 2), [2, 0, 1])
+
+
+class TestWhichGoesFirst(unittest.TestCase):
+    def test_no_turn_ahead_of_no_fit(self):
+        for p, q in (([0, 0], [0]), ([0], [0, 0]), ([], [1]), ([1], []), ([0], list(range(41))), (list(range(41)), [0])):
+            with self.assertRaises(NoTurn):
+                put_behind(p, q)
+
+    def test_no_turn_ahead_of_no_number(self):
+        for m in (0, -1):
+            for p in ([1], [0, 0], None, (), list(range(41))):
+                with self.assertRaises(NoTurn):
+                    root_told(p, m)
+
+    def test_no_fit_alone(self):
+        with self.assertRaises(NoFit):
+            put_behind([0], [1, 0])
+        with self.assertRaises(NoFit):
+            put_behind([], [0])
+
+    def test_no_number_alone(self):
+        with self.assertRaises(NoNumber):
+            root_told([], 0)
+        with self.assertRaises(NoNumber):
+            root_told([1, 0], 0)
+
+
+if __name__ == "__main__":
+    unittest.main()

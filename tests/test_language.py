@@ -1,0 +1,154 @@
+"""The package's own files keep to the small part of Python that the program is written in.
+
+Checked is what can be seen file by file: names, signs, sizes, imports, statements, expressions, methods.
+"""
+
+import ast
+import builtins
+import pathlib
+import re
+import unittest
+
+PACKAGE = pathlib.Path(__file__).resolve().parent.parent / "turnroots"
+FILES = sorted(PACKAGE.rglob("*.py"))
+OWN_NAMES = set(
+    "len range enumerate zip min max sum abs sorted reversed int str bool list tuple dict set frozenset isinstance "
+    "ord repr any all divmod Exception ValueError TypeError KeyError IndexError LookupError ZeroDivisionError "
+    "ArithmeticError OverflowError RuntimeError NotImplementedError AttributeError StopIteration".split()
+)
+METHODS = set(
+    "append clear copy count endswith extend find get index insert isalnum isalpha isdigit islower isspace isupper "
+    "items join keys ljust lower lstrip partition pop remove replace reverse rfind rjust rpartition rsplit rstrip "
+    "setdefault split splitlines startswith strip update upper values zfill bit_length".split()
+)
+NO_WORDS = set(
+    "type typing typing_extensions enum Enum IntEnum StrEnum Flag IntFlag Generic Protocol ABC ABCMeta namedtuple "
+    "NamedTuple TypedDict TYPE_CHECKING abstractmethod".split()
+)
+NO_NAMES = set(
+    "register mro elements open input version_info with_traceback add_note attrgetter breakpoint builtins compile "
+    "copyright credits delattr dir eval exec exit gc getattr globals hasattr help id importlib license locals "
+    "methodcaller os quit setattr super vars sys chr print format format_map".split()
+)
+NODES = tuple(
+    getattr(ast, name) for name in (
+        "Module ImportFrom alias FunctionDef arguments arg ClassDef Assign AugAssign If While For Return Break Continue "
+        "Pass Raise Try ExceptHandler Expr Constant List Tuple Dict Set BinOp UnaryOp BoolOp Compare IfExp Call "
+        "keyword Attribute Subscript Slice ListComp comprehension JoinedStr FormattedValue Name Lambda "
+        "Add Sub Mult FloorDiv Mod Pow BitAnd BitOr BitXor LShift RShift Invert USub UAdd Not And Or "
+        "Eq NotEq Lt LtE Gt GtE In NotIn Is IsNot Load Store"
+    ).split()
+)
+
+
+def tree_of(path):
+    return ast.parse(path.read_text(encoding="utf-8"))
+
+
+def bound_names(tree):
+    for node in ast.walk(tree):
+        if isinstance(node, (ast.FunctionDef, ast.ClassDef)):
+            yield node.name
+        if isinstance(node, ast.arg):
+            yield node.arg
+        if isinstance(node, ast.Name) and isinstance(node.ctx, ast.Store):
+            yield node.id
+
+
+def names_at_top(path):
+    told = set()
+    for node in tree_of(path).body:
+        if isinstance(node, (ast.FunctionDef, ast.ClassDef)):
+            told.add(node.name)
+        if isinstance(node, ast.Assign):
+            told.add(node.targets[0].id)
+    return told
+
+
+def drawn_from(path):
+    return {node.module for node in tree_of(path).body if isinstance(node, ast.ImportFrom)}
+
+
+class TestLanguage(unittest.TestCase):
+    def test_files(self):
+        for path in PACKAGE.rglob("*"):
+            if "__pycache__" not in path.parts:
+                self.assertRegex(path.name, r"\A(__init__|[a-z][a-z0-9_]*)\.py\Z")
+                self.assertNotIn(path.stem, dir(builtins))
+        self.assertIn(PACKAGE / "__init__.py", FILES)
+
+    def test_signs_and_sizes(self):
+        for path in FILES:
+            text = path.read_text(encoding="utf-8")
+            rows = text.split("\n")
+            self.assertRegex(text, r"\A[ -~\n]*\Z", path.name)
+            self.assertLessEqual(len(rows), 400, path.name)
+            self.assertLessEqual(max(len(row) for row in rows), 120, path.name)
+            self.assertEqual(NO_WORDS & set(re.findall(r"\w+", text)), set(), path.name)
+            self.assertNotRegex(text, "dataclass|overload|contextmanager")
+            for node in ast.walk(tree_of(path)):
+                if isinstance(node, ast.FunctionDef):
+                    self.assertLessEqual(node.end_lineno - node.lineno + 1, 40, node.name)
+
+    def test_statements_and_expressions(self):
+        for path in FILES:
+            for node in ast.walk(tree_of(path)):
+                place = (path.name, getattr(node, "lineno", 0), type(node).__name__)
+                self.assertIsInstance(node, NODES, place)
+                if isinstance(node, (ast.For, ast.While)):
+                    self.assertEqual(node.orelse, [], place)
+                if isinstance(node, ast.Try):
+                    self.assertEqual(node.finalbody, [], place)
+                if isinstance(node, ast.Assign):
+                    self.assertEqual(len(node.targets), 1, place)
+                if isinstance(node, ast.Constant):
+                    self.assertIn(type(node.value), (int, str, bool, type(None)), place)
+                if isinstance(node, (ast.FunctionDef, ast.ClassDef)):
+                    self.assertEqual(node.decorator_list, [], place)
+                if isinstance(node, ast.arguments):
+                    self.assertEqual((node.vararg, node.kwarg, node.kwonlyargs, node.posonlyargs), (None, None, [], []))
+                if isinstance(node, ast.Attribute):
+                    self.assertNotIn(node.attr, NO_NAMES, place)
+                if isinstance(node, ast.Name):
+                    self.assertNotIn(node.id, NO_NAMES, place)
+
+    def test_names(self):
+        for path in FILES:
+            tree = tree_of(path)
+            for name in bound_names(tree):
+                self.assertRegex(name, r"\A([A-Za-z]\w*|__(init|eq|repr|str|len)__)\Z", path.name)
+                self.assertNotIn(name, dir(builtins), path.name)
+            for node in ast.walk(tree):
+                if isinstance(node, ast.Name) and node.id in dir(builtins):
+                    self.assertIn(node.id, OWN_NAMES, path.name)
+
+    def test_methods(self):
+        own = {name for path in FILES for name in bound_names(tree_of(path))}
+        for path in FILES:
+            for node in ast.walk(tree_of(path)):
+                if isinstance(node, ast.Call) and isinstance(node.func, ast.Attribute):
+                    self.assertIn(node.func.attr, METHODS | own | {"__init__"}, (path.name, node.lineno))
+
+    def test_imports(self):
+        modules = {"turnroots." + path.stem: path for path in FILES if path.name != "__init__.py"}
+        for path in FILES:
+            for node in ast.walk(tree_of(path)):
+                if isinstance(node, ast.ImportFrom):
+                    self.assertEqual(node.level, 0, path.name)
+                    self.assertIn(node.module, modules, path.name)
+                    defined = names_at_top(modules[node.module])
+                    for drawn in node.names:
+                        self.assertIn(drawn.name, defined, path.name)
+                        self.assertIsNone(drawn.asname, path.name)
+
+    def test_no_two_draw_from_one_another(self):
+        left = {"turnroots." + path.stem: drawn_from(path) for path in FILES}
+        while left:
+            free = [name for name, drawn in left.items() if not drawn & set(left)]
+            self.assertNotEqual(free, [], sorted(left))
+            for name in free:
+                del left[name]
+
+
+if __name__ == "__main__":
+    unittest.main()

@@ -1,0 +1,1 @@
+"""Turnroots: powers and roots of rearrangements."""
