@@ -3,11 +3,16 @@
 import unittest
 
 from turnroots import errors
+from turnroots.allroots import all_roots, how_many_roots, nth_root, number_of_root
 from turnroots.hasroot import least_right, root_told
+from turnroots.ofone import powers_of_one
+from turnroots.past import all_past, go_past, how_many_past, named_anew, root_families
 from turnroots.rounds import from_rounds, home_of, kind_of, rounds_of
+from turnroots.soonest import soonest_root
 from turnroots.turns import power_of, put_behind, way_back
 
 NAMES = ["NoTurn", "NoFit", "NoRounds", "NoNumber", "NoRoot", "TooMany", "NoKind", "NoText", "NoName", "NoRow"]
+FORTY = list(range(40))
 REFUSED = [
     (errors.NoTurn, put_behind, ([1], [0])), (errors.NoTurn, put_behind, ([0], None)),
     (errors.NoTurn, way_back, ((0,),)), (errors.NoTurn, power_of, ("", 2)),
@@ -16,6 +21,22 @@ REFUSED = [
     (errors.NoRounds, from_rounds, ([[]],)), (errors.NoRounds, from_rounds, ([[1]],)),
     (errors.NoNumber, least_right, (0, 1)), (errors.NoNumber, least_right, (1, 0)),
     (errors.NoTurn, root_told, ([2], 2)), (errors.NoNumber, root_told, ([0], 0)),
+    (errors.NoTurn, how_many_roots, ([2], 2)), (errors.NoNumber, how_many_roots, ([0], 0)),
+    (errors.NoTurn, all_roots, ([2], 2)), (errors.NoNumber, all_roots, ([0], 0)), (errors.TooMany, all_roots, (FORTY, 2)),
+    (errors.NoTurn, nth_root, ([2], 2, 0)), (errors.NoNumber, nth_root, ([0], 0, 0)),
+    (errors.TooMany, nth_root, (FORTY, 2, 0)), (errors.NoNumber, nth_root, ([0], 2, 1)),
+    (errors.NoTurn, number_of_root, ([2], 2, [0])), (errors.NoTurn, number_of_root, ([0], 2, [2])),
+    (errors.NoNumber, number_of_root, ([0], 0, [0])), (errors.NoFit, number_of_root, ([0], 2, [])),
+    (errors.TooMany, number_of_root, (FORTY, 2, FORTY)), (errors.NoRoot, number_of_root, ([1, 0], 2, [0, 1])),
+    (errors.NoTurn, soonest_root, ([2], 2)), (errors.NoNumber, soonest_root, ([0], 0)),
+    (errors.TooMany, soonest_root, (FORTY, 2)),
+    (errors.NoTurn, go_past, ([2], [0])), (errors.NoTurn, go_past, ([0], [2])), (errors.NoFit, go_past, ([0], [])),
+    (errors.NoTurn, how_many_past, ([2],)), (errors.NoTurn, all_past, ([2],)), (errors.TooMany, all_past, (FORTY,)),
+    (errors.NoTurn, named_anew, ([2], [0])), (errors.NoFit, named_anew, ([0], [])),
+    (errors.NoTurn, root_families, ([2], 2)), (errors.NoNumber, root_families, ([0], 0)),
+    (errors.TooMany, root_families, (FORTY, 2)),
+    (errors.NoTurn, powers_of_one, ([2], [0])), (errors.NoFit, powers_of_one, ([0], [])),
+    (errors.TooMany, powers_of_one, (FORTY, FORTY)),
 ]
 
 

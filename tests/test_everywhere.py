@@ -4,9 +4,13 @@ import copy
 import unittest
 
 import worked
+from turnroots.allroots import all_roots, how_many_roots, nth_root, number_of_root
 from turnroots.errors import NoFit, NoNumber, NoTurn, TurnError
 from turnroots.hasroot import least_right, root_told
+from turnroots.ofone import powers_of_one
+from turnroots.past import all_past, go_past, how_many_past, named_anew, root_families
 from turnroots.rounds import from_rounds, home_of, kind_of, rounds_of
+from turnroots.soonest import soonest_root
 from turnroots.turns import is_turn, power_of, put_behind, way_back
 
 
@@ -25,6 +29,39 @@ def questions():
         told.append((from_rounds, [worked.rounds(p)], list))
         for m in (1, 2, 6, 10 ** 29 + 1):
             told.append((root_told, [list(p), m], tuple))
+            told.append((how_many_roots, [list(p), m], int))
+        told.append((how_many_past, [list(p)], int))
+        told.append((go_past, [list(p), worked.back(p)], bool))
+        told.append((named_anew, [list(p), worked.back(p)], list))
+        told.append((named_anew, [list(p), list(p)], list))
+    return told + questions_about_roots() + questions_about_past()
+
+
+def questions_about_roots():
+    told = []
+    for p in worked.many_turns():
+        for m in (1, 2, 6, 10 ** 29 + 1):
+            if worked.roots_counted(p, m) <= 60:
+                told.append((all_roots, [list(p), m], list))
+                told.append((root_families, [list(p), m], list))
+            if 0 < worked.roots_counted(p, m) <= 60:
+                told.append((nth_root, [list(p), m, 0], list))
+                told.append((number_of_root, [list(p), m, root_told(p, m)[1]], int))
+            if len(p) <= 16:
+                kind = type(None) if worked.soonest_home(p, m) is None else tuple
+                told.append((soonest_root, [list(p), m], kind))
+    return told
+
+
+def questions_about_past():
+    told = [(named_anew, [[0, 1], [1, 0]], type(None)), (powers_of_one, [[1, 0, 2], [0, 2, 1]], type(None))]
+    for p in worked.many_turns():
+        if worked.past_counted(p) <= 200:
+            told.append((all_past, [list(p)], list))
+        if len(p) <= 8:
+            told.append((powers_of_one, [list(p), worked.back(p)], tuple))
+            told.append((powers_of_one, [list(p), list(range(len(p)))], tuple))
+            told.append((powers_of_one, [list(range(len(p))), list(p)], tuple))
     return told
 
 
@@ -50,10 +87,12 @@ class TestToldAndHandedIn(unittest.TestCase):
 
     def test_whole_numbers_and_lists_within(self):
         for asked, handed, kind in questions():
-            if asked in (put_behind, way_back, power_of, kind_of, from_rounds):
+            if asked in (put_behind, way_back, power_of, kind_of, from_rounds, nth_root):
                 self.assertTrue(all(type(part) is int for part in asked(*handed)))
-            if asked == rounds_of:
-                self.assertTrue(all(type(ring) is list for ring in asked(*handed)))
+            if asked in (rounds_of, all_roots, all_past, root_families):
+                self.assertTrue(all(type(part) is list for part in asked(*handed)))
+            if asked == root_families:
+                self.assertTrue(all(type(root) is list for family in asked(*handed) for root in family))
 
     def test_handed_in_stays(self):
         for asked, handed, kind in questions():
@@ -65,6 +104,12 @@ class TestToldAndHandedIn(unittest.TestCase):
         for asked, handed in [
             (put_behind, [[1, 0], [0]]), (put_behind, [[1, 0], [1, 1]]), (way_back, [[2, 0]]), (power_of, [[0, 0], 3]),
             (from_rounds, [[[1, 0], [3]]]), (from_rounds, [[[0], []]]), (root_told, [[1, 0], 0]),
+            (how_many_roots, [[1, 0], 0]), (all_roots, [list(range(40)), 2]), (nth_root, [[1, 0], 2, 0]),
+            (nth_root, [list(range(40)), 2, 0]), (number_of_root, [[1, 0], 2, [1, 0]]), (number_of_root, [[1, 0], 2, [0]]),
+            (number_of_root, [list(range(40)), 2, list(range(40))]), (soonest_root, [list(range(17)), 2]),
+            (go_past, [[1, 0], [0]]), (all_past, [list(range(40))]), (named_anew, [[1, 0], [0]]),
+            (root_families, [list(range(40)), 2]), (powers_of_one, [[1, 0], [0]]),
+            (powers_of_one, [list(range(9)), list(range(9))]),
         ]:
             before = copy.deepcopy(handed)
             with self.assertRaises(TurnError):
@@ -102,6 +147,15 @@ class TestToldAndHandedIn(unittest.TestCase):
         told = put_behind(p, p)
         self.assertEqual((told, p), ([2, 0, 1], [1, 2, 0]))
         self.assertIsNot(told, p)
+        self.assertIs(go_past(p, p), True)
+        self.assertEqual(named_anew(p, p), [0, 1, 2])
+        self.assertEqual(number_of_root(p, 1, p), 0)
+        r = powers_of_one(p, p)[0]
+        self.assertIsNot(r, p)
+        self.assertIsNot(all_roots(p, 1)[0], p)
+        self.assertIsNot(nth_root(p, 1, 0), p)
+        self.assertIsNot(soonest_root(p, 1)[1], p)
+        self.assertEqual(p, [1, 2, 0])
 
     def test_told_may_be_handed_in(self):
         for p in worked.many_turns():
@@ -109,6 +163,10 @@ class TestToldAndHandedIn(unittest.TestCase):
             self.assertEqual(put_behind(square, way_back(p)), p)
             self.assertEqual(from_rounds(rounds_of(square)), square)
             self.assertEqual(power_of(root_told(square, 2)[1], 2), square)
+            if how_many_roots(square, 2) <= 60:
+                for k, root in enumerate(all_roots(square, 2)):
+                    self.assertEqual(number_of_root(square, 2, root), k)
+                    self.assertIs(go_past(root, square), True)
 
     def test_asked_after_a_refusal(self):
         for thing in worked.no_turns():

@@ -112,6 +112,24 @@ class TestLanguage(unittest.TestCase):
                 if isinstance(node, ast.Name):
                     self.assertNotIn(node.id, NO_NAMES, place)
 
+    def test_narrower_forms(self):
+        for path in FILES:
+            for node in ast.walk(tree_of(path)):
+                place = (path.name, getattr(node, "lineno", 0), type(node).__name__)
+                if isinstance(node, ast.BinOp) and isinstance(node.op, ast.Pow):
+                    self.assertIsInstance(node.right, ast.Constant, place)
+                if isinstance(node, ast.Constant) and isinstance(node.value, str):
+                    self.assertNotIn("%", node.value, place)
+                if isinstance(node, ast.ListComp):
+                    self.assertEqual(len(node.generators), 1, place)
+                    self.assertLessEqual(len(node.generators[0].ifs), 1, place)
+                if isinstance(node, ast.Compare) and any(isinstance(op, (ast.Is, ast.IsNot)) for op in node.ops):
+                    sides = [side for side in [node.left] + node.comparators if isinstance(side, ast.Constant)]
+                    self.assertTrue(any(side.value in (None, True, False) for side in sides), place)
+                if isinstance(node, (ast.FunctionDef, ast.ClassDef)):
+                    inner = [part for part in ast.walk(node) if isinstance(part, (ast.ImportFrom, ast.ClassDef))]
+                    self.assertEqual([part for part in inner if part is not node], [], place)
+
     def test_names(self):
         for path in FILES:
             tree = tree_of(path)

@@ -1,8 +1,9 @@
 """Answers worked out by the document's own words, and inputs that several tests share."""
 
+import functools
 import itertools
 import random
-from math import gcd
+from math import factorial, gcd, lcm
 
 
 def all_turns(n):
@@ -86,6 +87,74 @@ def product_of(primes):
     return told
 
 
+def home(p):
+    return lcm(*[len(walked) for walked in rounds(p)])
+
+
+def renamed(p, s):
+    """p with its things named anew: s behind p behind the way back of s."""
+    return behind(s, behind(p, back(s)))
+
+
+def roots_by_going_through(turns, m):
+    """Of each rearrangement that is an m-th power, its m-th roots, in the order of turns."""
+    told = {}
+    for r in turns:
+        told.setdefault(tuple(power_by_doubling(r, m)), []).append(r)
+    return told
+
+
+def partings(c, right):
+    """All ways to part c into right numbers, these rising: dicts of how often each one is taken."""
+    if c == 0:
+        return [{}]
+    if not right:
+        return []
+    d = right[-1]
+    told = []
+    for k in range(c // d + 1):
+        for others in partings(c - k * d, right[:-1]):
+            told.append({d: k, **others} if k else others)
+    return told
+
+
+def ways_of_parting(c, l, taken):
+    """[12]: c! over d! to the power k and k!, times (d - 1)! times l to the power d - 1 for each part d."""
+    under = times = 1
+    for d, k in taken.items():
+        under *= factorial(d) ** k * factorial(k)
+        times *= (factorial(d - 1) * l ** (d - 1)) ** k
+    return factorial(c) // under * times
+
+
+@functools.lru_cache(maxsize=None)
+def ways_of_all_partings(c, l, right):
+    return sum(ways_of_parting(c, l, taken) for taken in partings(c, right))
+
+
+def roots_counted(p, m):
+    told = 1
+    for l, c in many_by_length(p).items():
+        told *= ways_of_all_partings(c, l, tuple(right_numbers(l, m, range(1, c + 1))))
+    return told
+
+
+def soonest_home(p, m):
+    """The least home of all roots, by all ways to part the rounds; None where there is no root."""
+    homes = {1}
+    for l, c in many_by_length(p).items():
+        lengths = [lcm(*[d * l for d in taken]) for taken in partings(c, right_numbers(l, m, range(1, c + 1)))]
+        homes = {lcm(one, other) for one in homes for other in lengths}
+    return min(homes, default=None)
+
+
+def past_counted(p):
+    told = 1
+    for l, c in many_by_length(p).items():
+        told *= l ** c * factorial(c)
+    return told
+
+
 def turn_of_lengths(lengths, seed):
     """A rearrangement with rounds of these lengths, its things dealt out by seed."""
     things = list(range(sum(lengths)))
@@ -117,6 +186,18 @@ def many_turns():
         told.append(p)
     return told
 
+
+# Lengths of rounds and m, with how many m-th roots there are: just two thousand, and the nearest above it.
+TWO_THOUSAND_ROOTS = [
+    ([1] * 5 + [3] * 3 + [4] * 2, 10), ([1] * 5 + [3] * 2 + [9] * 2, 10), ([1] * 5 + [4] * 2 + [9] * 2, 50),
+    ([1] * 4 + [2] * 2 + [3] * 3 + [9] * 2, 2), ([1] * 4 + [2] * 2 + [3] * 3 + [10] * 2, 14),
+]
+MORE_ROOTS = [
+    ([1] * 4 + [5] * 2 + [13] * 2, 12, 2016), ([1] * 2 + [3] * 4 + [7] * 3, 2, 2024),
+    ([1] * 40, 2, None), ([2] * 20, 4, None), ([1] * 40, 5342931457063200, None),
+]
+TWO_THOUSAND_PAST = [[4, 5, 5, 10], [1, 1, 5, 10, 10], [2, 5, 5, 20], [1, 1, 2, 2, 5, 25], [1, 1, 5, 8, 25]]
+MORE_PAST = [([1, 1, 7, 11, 13], 2002), ([11, 13, 14], 2002), ([2, 2, 2, 1, 1, 1, 7], 2016), ([1] * 7, 5040), ([1] * 40, None)]
 
 SMALL_NUMBERS = list(range(1, 31)) + [36, 48, 60, 64, 72, 81, 97, 120, 128, 210, 360]
 GREAT_PRIMES = [

@@ -1,6 +1,8 @@
-"""What several modules need: whole numbers, and rounds as they are walked."""
+"""What several modules need: whole numbers, rounds as they are walked, and ways to choose among them."""
 
-from turnroots.errors import NoNumber
+from turnroots.errors import NoNumber, TooMany
+
+MOST_TOLD = 2000
 
 
 def is_whole(thing):
@@ -11,6 +13,11 @@ def is_whole(thing):
 def must_be_from_one(number):
     if not is_whole(number) or number < 1:
         raise NoNumber("a whole number from 1 on is asked for")
+
+
+def must_be_few(many):
+    if many > MOST_TOLD:
+        raise TooMany("there are more than 2000 of them")
 
 
 def greatest_part(a, b):
@@ -47,3 +54,40 @@ def send_along(target, ring, steps):
     # Going round makes far and negative steps short ones: only the rest counts.
     for place, thing in enumerate(ring):
         target[thing] = ring[(place + steps) % len(ring)]
+
+
+def send_over(target, ring, image):
+    for thing, place in zip(ring, image):
+        target[thing] = place
+
+
+def sort_by_length(rings):
+    by_length = {}
+    for ring in rings:
+        by_length.setdefault(len(ring), []).append(ring)
+    return by_length
+
+
+def picks_of(rings):
+    # A ring may be begun at each of its things, and each beginning is a pick of its own.
+    picks = []
+    for at, ring in enumerate(rings):
+        left = rings[:at] + rings[at + 1:]
+        for begin in range(len(ring)):
+            picks.append((ring[begin:] + ring[:begin], left))
+    return picks
+
+
+def lay_every_way(p, choices):
+    # No two choices send the same thing, so each way of one goes with each way of the others.
+    laid = [list(p)]
+    for ways in choices:
+        wider = []
+        for turn in laid:
+            for way in ways:
+                told = list(turn)
+                for thing in way:
+                    told[thing] = way[thing]
+                wider.append(told)
+        laid = wider
+    return sorted(laid)

@@ -1,6 +1,6 @@
 """Whether a rearrangement has an m-th root: one root, or the rounds that bar it."""
 
-from turnroots.basics import greatest_part, must_be_from_one
+from turnroots.basics import greatest_part, must_be_from_one, sort_by_length
 from turnroots.rounds import from_rounds, rounds_of
 
 
@@ -15,13 +15,6 @@ def least_right(l, m):
         least = least * common
         common = greatest_part(l, m // least)
     return least
-
-
-def sort_by_length(rings):
-    by_length = {}
-    for ring in rings:
-        by_length.setdefault(len(ring), []).append(ring)
-    return by_length
 
 
 def join_rings(rings, m):
