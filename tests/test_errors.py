@@ -4,11 +4,14 @@ import unittest
 
 from turnroots import errors
 from turnroots.allroots import all_roots, how_many_roots, nth_root, number_of_root
+from turnroots.counted import how_many_have, how_many_home, how_many_of, kinds_of
+from turnroots.desk import Desk
 from turnroots.hasroot import least_right, root_told
 from turnroots.ofone import powers_of_one
 from turnroots.past import all_past, go_past, how_many_past, named_anew, root_families
 from turnroots.rounds import from_rounds, home_of, kind_of, rounds_of
 from turnroots.soonest import soonest_root
+from turnroots.texts import read_turn, show_turn
 from turnroots.turns import power_of, put_behind, way_back
 
 NAMES = ["NoTurn", "NoFit", "NoRounds", "NoNumber", "NoRoot", "TooMany", "NoKind", "NoText", "NoName", "NoRow"]
@@ -37,6 +40,13 @@ REFUSED = [
     (errors.TooMany, root_families, (FORTY, 2)),
     (errors.NoTurn, powers_of_one, ([2], [0])), (errors.NoFit, powers_of_one, ([0], [])),
     (errors.TooMany, powers_of_one, (FORTY, FORTY)),
+    (errors.NoNumber, kinds_of, (-1,)), (errors.TooMany, kinds_of, (13,)), (errors.NoKind, how_many_of, ([1, 2],)),
+    (errors.NoNumber, how_many_have, (-1, 1)), (errors.NoNumber, how_many_have, (1, 0)), (errors.TooMany, how_many_have, (13, 0)),
+    (errors.NoNumber, how_many_home, (-1, 1)), (errors.NoNumber, how_many_home, (1, 0)), (errors.TooMany, how_many_home, (13, 0)),
+    (errors.NoTurn, show_turn, ([2],)), (errors.NoText, read_turn, ("(a)",)), (errors.NoText, read_turn, ("(1)",)),
+    (errors.NoText, read_turn, ("(1 0)",)), (errors.NoText, read_turn, (None,)),
+    (errors.NoRow, Desk().say, (None,)), (errors.NoRow, Desk().say, ("show",)), (errors.NoName, Desk().say, ("show a",)),
+    (errors.NoText, Desk().say, ("turn a (1)",)),
 ]
 
 

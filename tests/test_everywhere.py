@@ -5,12 +5,15 @@ import unittest
 
 import worked
 from turnroots.allroots import all_roots, how_many_roots, nth_root, number_of_root
+from turnroots.counted import how_many_have, how_many_home, how_many_of, kinds_of
+from turnroots.desk import Desk
 from turnroots.errors import NoFit, NoNumber, NoTurn, TurnError
 from turnroots.hasroot import least_right, root_told
 from turnroots.ofone import powers_of_one
 from turnroots.past import all_past, go_past, how_many_past, named_anew, root_families
 from turnroots.rounds import from_rounds, home_of, kind_of, rounds_of
 from turnroots.soonest import soonest_root
+from turnroots.texts import read_turn, show_turn
 from turnroots.turns import is_turn, power_of, put_behind, way_back
 
 
@@ -34,7 +37,7 @@ def questions():
         told.append((go_past, [list(p), worked.back(p)], bool))
         told.append((named_anew, [list(p), worked.back(p)], list))
         told.append((named_anew, [list(p), list(p)], list))
-    return told + questions_about_roots() + questions_about_past()
+    return told + questions_about_roots() + questions_about_past() + questions_about_counts() + questions_about_texts()
 
 
 def questions_about_roots():
@@ -65,6 +68,26 @@ def questions_about_past():
     return told
 
 
+def questions_about_counts():
+    told = [(how_many_of, [[]], int)]
+    for n in range(13):
+        told.append((kinds_of, [n], list))
+        for m in (1, 2, 6, 10 ** 29 + 1):
+            told.append((how_many_have, [n, m], int))
+            told.append((how_many_home, [n, m], int))
+    for lengths in worked.LENGTHS:
+        told.append((how_many_of, [sorted(lengths, reverse=True)], int))
+    return told
+
+
+def questions_about_texts():
+    told = []
+    for p in worked.many_turns():
+        told.append((show_turn, [list(p)], str))
+        told.append((read_turn, [worked.written(p)], list))
+    return told
+
+
 def lists_within(thing):
     """All lists in what was told or handed in, itself too."""
     found = [thing] if isinstance(thing, list) else []
@@ -87,9 +110,9 @@ class TestToldAndHandedIn(unittest.TestCase):
 
     def test_whole_numbers_and_lists_within(self):
         for asked, handed, kind in questions():
-            if asked in (put_behind, way_back, power_of, kind_of, from_rounds, nth_root):
+            if asked in (put_behind, way_back, power_of, kind_of, from_rounds, nth_root, read_turn):
                 self.assertTrue(all(type(part) is int for part in asked(*handed)))
-            if asked in (rounds_of, all_roots, all_past, root_families):
+            if asked in (rounds_of, all_roots, all_past, root_families, kinds_of):
                 self.assertTrue(all(type(part) is list for part in asked(*handed)))
             if asked == root_families:
                 self.assertTrue(all(type(root) is list for family in asked(*handed) for root in family))
@@ -109,7 +132,8 @@ class TestToldAndHandedIn(unittest.TestCase):
             (number_of_root, [list(range(40)), 2, list(range(40))]), (soonest_root, [list(range(17)), 2]),
             (go_past, [[1, 0], [0]]), (all_past, [list(range(40))]), (named_anew, [[1, 0], [0]]),
             (root_families, [list(range(40)), 2]), (powers_of_one, [[1, 0], [0]]),
-            (powers_of_one, [list(range(9)), list(range(9))]),
+            (powers_of_one, [list(range(9)), list(range(9))]), (how_many_of, [[1, 2]]), (how_many_of, [[40, 1]]),
+            (how_many_of, [[0]]), (show_turn, [[1, 1]]), (read_turn, [[0]]), (read_turn, [["(0)"]]), (Desk().say, [["names"]]),
         ]:
             before = copy.deepcopy(handed)
             with self.assertRaises(TurnError):
@@ -167,6 +191,17 @@ class TestToldAndHandedIn(unittest.TestCase):
                 for k, root in enumerate(all_roots(square, 2)):
                     self.assertEqual(number_of_root(square, 2, root), k)
                     self.assertIs(go_past(root, square), True)
+            self.assertEqual(read_turn(show_turn(square)), square)
+            self.assertEqual(how_many_of(kind_of(p)), how_many_of(kind_of(way_back(p))))
+
+    def test_counts_may_be_handed_in(self):
+        # A count of roots or of a kind may have more than thirty figures, and is a number like any other.
+        many = how_many_of([40])
+        p = worked.turn_of_lengths([7, 5, 3, 2, 1], 3)
+        self.assertEqual(power_of(p, many), worked.power_by_doubling(p, many))
+        self.assertEqual(how_many_home(12, many), how_many_home(12, 27720))
+        self.assertEqual(how_many_have(4, how_many_of([1] * 40)), 24)
+        self.assertEqual(how_many_roots(p, many), worked.roots_counted(p, many))
 
     def test_asked_after_a_refusal(self):
         for thing in worked.no_turns():
@@ -175,6 +210,17 @@ class TestToldAndHandedIn(unittest.TestCase):
                     asked(thing, *rest)
         self.assertEqual(root_told([1, 2, 0], 2), root_told([1, 2, 0], 2))
         self.assertEqual(power_of([1, 2, 0], 2), [2, 0, 1])
+
+
+class TestRootsToRoots(unittest.TestCase):
+    def test_what_goes_past_leads_roots_to_roots(self):
+        for lengths, m in (([2, 2, 1, 1], 3), ([1] * 4, 2), ([2, 2], 2), ([3, 3, 1], 2), ([4, 4], 6), ([3, 2, 2], 4)):
+            p = worked.turn_of_lengths(lengths, 12)
+            roots = all_roots(p, m)
+            self.assertEqual(len(roots), how_many_roots(p, m))
+            for s in all_past(p):
+                led = [put_behind(s, put_behind(root, way_back(s))) for root in roots]
+                self.assertEqual(sorted(led), roots)
 
 
 class TestWhichGoesFirst(unittest.TestCase):

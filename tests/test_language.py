@@ -1,6 +1,7 @@
 """The package's own files keep to the small part of Python that the program is written in.
 
-Checked is what can be seen file by file: names, signs, sizes, imports, statements, expressions, methods.
+Checked is what can be seen in the files: names, signs, sizes, imports, statements, expressions, methods, classes, what
+stands at a file's top, handlers of errors, keywords, and what is walked at once.
 """
 
 import ast
@@ -41,6 +42,20 @@ NODES = tuple(
 )
 
 
+PYTHON_VALUES = (str, int, list, dict, set, bytes)
+# Free for methods beside METHODS, and for values, though Python's own values have such methods, too.
+FREE_METHODS = METHODS | {"add", "discard"}
+FREE_VALUES = set("count index title find get join lower upper split strip copy add".split())
+HANDLED = set("KeyError ZeroDivisionError StopIteration".split())
+KEYWORDS = {
+    "sorted": {"key", "reverse"}, "min": {"key", "default"}, "max": {"key", "default"}, "sum": {"start"},
+    "enumerate": {"start"}, "zip": {"strict"},
+}
+WALKED = set("zip enumerate reversed range".split())
+WALKED_METHODS = set("items keys values".split())
+WALKING = set("list tuple dict sorted sum any all enumerate zip min max join".split())
+
+
 def tree_of(path):
     return ast.parse(path.read_text(encoding="utf-8"))
 
@@ -67,6 +82,38 @@ def names_at_top(path):
 
 def drawn_from(path):
     return {node.module for node in tree_of(path).body if isinstance(node, ast.ImportFrom)}
+
+
+def classes_of(path):
+    return [node for node in tree_of(path).body if isinstance(node, ast.ClassDef)]
+
+
+def values_of(node):
+    """The names of the values that are given to an object."""
+    return {
+        part.attr for part in ast.walk(node) if isinstance(part, ast.Attribute) and isinstance(part.ctx, ast.Store)
+    }
+
+
+def parents_in(tree):
+    return {part: node for node in ast.walk(tree) for part in ast.iter_child_nodes(node)}
+
+
+def called(node):
+    """The name that a call calls, of a method too."""
+    if not isinstance(node, ast.Call):
+        return None
+    return node.func.id if isinstance(node.func, ast.Name) else getattr(node.func, "attr", None)
+
+
+def is_plain(node, functions):
+    if isinstance(node, (ast.List, ast.Tuple)):
+        return all(is_plain(part, functions) for part in node.elts)
+    if isinstance(node, ast.Dict):
+        return all(is_plain(part, functions) for part in node.keys + node.values)
+    if isinstance(node, ast.UnaryOp):
+        return isinstance(node.op, ast.USub) and is_plain(node.operand, functions)
+    return isinstance(node, ast.Constant) or isinstance(node, ast.Name) and node.id in functions
 
 
 class TestLanguage(unittest.TestCase):
@@ -166,6 +213,103 @@ class TestLanguage(unittest.TestCase):
             self.assertNotEqual(free, [], sorted(left))
             for name in free:
                 del left[name]
+
+    def test_the_top_of_a_file(self):
+        for path in FILES:
+            body = tree_of(path).body
+            self.assertIsNotNone(ast.get_docstring(tree_of(path)), path.name)
+            functions = set()
+            bound = []
+            for node in body[1:]:
+                place = (path.name, node.lineno)
+                self.assertIsInstance(node, (ast.ImportFrom, ast.FunctionDef, ast.ClassDef, ast.Assign), place)
+                if isinstance(node, ast.ImportFrom):
+                    bound.extend(drawn.name for drawn in node.names)
+                elif isinstance(node, ast.Assign):
+                    self.assertIsInstance(node.targets[0], ast.Name, place)
+                    self.assertTrue(is_plain(node.value, functions), place)
+                    kept = [part for part in ast.walk(node.value) if isinstance(part, (ast.List, ast.Dict))]
+                    self.assertEqual([part for part in kept if part is not node.value], [], place)
+                    bound.append(node.targets[0].id)
+                else:
+                    bound.append(node.name)
+                    functions.add(node.name)
+            self.assertEqual(len(bound), len(set(bound)), path.name)
+
+    def test_locals_and_parameters(self):
+        for path in FILES:
+            tree = tree_of(path)
+            taken = {drawn.name for node in tree.body if isinstance(node, ast.ImportFrom) for drawn in node.names}
+            taken.update(node.name for node in classes_of(path))
+            for node in ast.walk(tree):
+                if isinstance(node, ast.FunctionDef):
+                    self.assertEqual(taken & set(bound_names(node)), set(), (path.name, node.name))
+
+    def test_classes(self):
+        methods = set()
+        values = set()
+        for path in FILES:
+            for node in classes_of(path):
+                self.assertLessEqual(len(node.bases), 1, node.name)
+                self.assertEqual(node.keywords, [], node.name)
+                defined = [part.name for part in node.body if isinstance(part, ast.FunctionDef)]
+                self.assertEqual(len(defined), len(set(defined)), node.name)
+                for part in node.body:
+                    self.assertIsInstance(part, (ast.FunctionDef, ast.Pass, ast.Expr), (path.name, part.lineno))
+                methods.update(defined)
+                values.update(values_of(node))
+        self.assertEqual(methods & values, set())
+        for name in methods - FREE_METHODS - {"__init__"}:
+            self.assertFalse(any(hasattr(kind, name) for kind in PYTHON_VALUES), name)
+        for name in values - FREE_VALUES:
+            self.assertFalse(any(hasattr(kind, name) for kind in PYTHON_VALUES), name)
+
+    def test_classes_are_called_or_named_alone(self):
+        own = {node.name for path in FILES for node in classes_of(path)}
+        for path in FILES:
+            tree = tree_of(path)
+            parents = parents_in(tree)
+            for node in ast.walk(tree):
+                if isinstance(node, ast.Name) and node.id in own:
+                    above = parents[node]
+                    fits = isinstance(above, (ast.ClassDef, ast.ExceptHandler, ast.Raise))
+                    fits = fits or isinstance(above, ast.Call) and (above.func is node or called(above) == "isinstance")
+                    self.assertTrue(fits, (path.name, node.lineno))
+
+    def test_errors_that_are_taken(self):
+        own = {node.name for path in FILES for node in classes_of(path)}
+        for path in FILES:
+            for node in ast.walk(tree_of(path)):
+                if isinstance(node, ast.ExceptHandler):
+                    self.assertIsInstance(node.type, ast.Name, (path.name, node.lineno))
+                    self.assertIn(node.type.id, own | HANDLED, (path.name, node.lineno))
+                if isinstance(node, ast.Raise):
+                    self.assertIsInstance(node.exc, ast.Call, (path.name, node.lineno))
+                    self.assertIn(called(node.exc), own, (path.name, node.lineno))
+
+    def test_keywords(self):
+        for path in FILES:
+            for node in ast.walk(tree_of(path)):
+                if isinstance(node, ast.Call):
+                    given = {keyword.arg for keyword in node.keywords}
+                    self.assertLessEqual(given, KEYWORDS.get(called(node), set()), (path.name, node.lineno))
+
+    def test_walked_at_once(self):
+        for path in FILES:
+            tree = tree_of(path)
+            parents = parents_in(tree)
+            for node in ast.walk(tree):
+                method = isinstance(node, ast.Call) and isinstance(node.func, ast.Attribute)
+                if called(node) in (WALKED_METHODS if method else WALKED):
+                    above = parents[node]
+                    fits = isinstance(above, (ast.For, ast.comprehension)) and above.iter is node
+                    self.assertTrue(fits or called(above) in WALKING, (path.name, node.lineno))
+
+    def test_no_set_is_kept(self):
+        for path in FILES:
+            for node in ast.walk(tree_of(path)):
+                self.assertNotIsInstance(node, ast.Set, path.name)
+                self.assertNotIn(called(node), ("set", "frozenset"), path.name)
 
 
 if __name__ == "__main__":
