@@ -188,6 +188,8 @@ def many_turns():
 
 
 # Lengths of rounds and m, with how many m-th roots there are: just two thousand, and the nearest above it.
+# Of at most forty things none has just 2001 roots, nor do just 2001 go past any: 2001 is 3 times 23 times 29, and
+# of the counts of roots for rounds of one length only 3 parts it; three lengths 3, 23, 29 are too many things.
 TWO_THOUSAND_ROOTS = [
     ([1] * 5 + [3] * 3 + [4] * 2, 10), ([1] * 5 + [3] * 2 + [9] * 2, 10), ([1] * 5 + [4] * 2 + [9] * 2, 50),
     ([1] * 4 + [2] * 2 + [3] * 3 + [9] * 2, 2), ([1] * 4 + [2] * 2 + [3] * 3 + [10] * 2, 14),
